@@ -1,0 +1,1 @@
+"""Fenlevel: heights that are sure, whoever was false."""
