@@ -76,18 +76,90 @@ def has_open_ring(size, runs, struck=()):
                for start in range(size) for line, end, rise in every_line(runs, struck, start))
 
 
-def do_close(size, runs, struck=()):
-    """True where the runs close, by giving heights along until nothing is left to give."""
+def plain_heights(size, runs, struck=()):
+    """A height for each mark by giving heights along until nothing is left to give; all runs hold if any
+    heights do."""
     height = {}
     for start in range(size):
         height.setdefault(start, 0)
-        for turn in range(size):
+        known = 0
+        while known < len(height):
+            known = len(height)
             for number, (one, other, rise, hand) in kept(runs, struck):
                 if one in height:
                     height.setdefault(other, height[one] + rise)
                 if other in height:
                     height.setdefault(one, height[other] - rise)
+    return [height[mark] for mark in range(size)]
+
+
+def do_close(size, runs, struck=()):
+    """True where the runs close, by heights that were given along."""
+    height = plain_heights(size, runs, struck)
     return all(height[other] - height[one] == rise for number, (one, other, rise, hand) in kept(runs, struck))
+
+
+def hand_cases():
+    """Pairs (size, runs) with ten hands and fewer, some of them false in all they tell, some by a second
+    truth of their own, so that much and little is sure; the same ones each time."""
+    source = random.Random(7)
+    for size, many, hands in [(1, 0, 1), (2, 4, 4), (2, 9, 6), (3, 6, 3), (3, 14, 7), (4, 12, 5), (5, 20, 8), (6, 5, 4),
+                              (6, 30, 10), (12, 40, 10)]:
+        for false in (0, 1, 2, 3, 4):
+            for second in (False, True):
+                truths = [[source.randrange(-9, 10) for mark in range(size)] for turn in range(2)]
+                runs = []
+                for number in range(many):
+                    one, other = source.sample(range(size), 2)
+                    hand = number % hands
+                    heights = truths[1 if hand < false else 0]
+                    noise = source.randrange(3) if hand < false and not second else 0
+                    runs.append((one, other, heights[other] - heights[one] + noise, hand))
+                source.shuffle(runs)
+                yield size, runs
+
+
+def worst_cases():
+    """Triples (size, runs, answer) of 40 runs of ten hands, in a ring of ten marks with four hands at each
+    step: what is told from mark 0 to mark 5 with three hands struck."""
+    steps = [(mark, (mark + 1) % 10, (mark + turn) % 10) for turn in range(4) for mark in range(10)]
+    yield 10, [(one, other, 1, hand) for one, other, hand in steps], ("none",)
+    yield 10, [(one, other, 1 if one < 9 else -9, hand) for one, other, hand in steps], ("sure", 5)
+    lines = [(mark, mark + 1, 10 ** 30, (3 * mark + turn) % 10) for turn in range(4) for mark in range(10)]
+    yield 11, lines, ("sure", 5 * 10 ** 30)
+    yield 11, lines[1:] + [(0, 10, 0, 6)], ("open",)
+    yield 12, [(0, 5, hand, hand) for hand in range(10)] * 4, ("none",)
+    yield 12, [(0, 5, hand // 3, hand) for hand in range(10)] * 4, ("none",)
+    yield 12, [(0, 5, max(hand, 3), hand) for hand in range(10)] * 4, ("none",)
+    yield 12, [(0, 5, min(hand, 4), hand) for hand in range(10)] * 4, ("none",)
+    yield 12, [(0, 5, min(hand, 3), hand) for hand in range(10)] * 4, ("sure", 3)
+
+
+def every_list(runs, many):
+    """Every growing list of at most so many of the runs' hands, the shortest first."""
+    hands = sorted({run[3] for run in runs})
+    return [list(chosen) for length in range(many + 1) for chosen in itertools.combinations(hands, length)]
+
+
+def plain_false_sets(size, runs, many):
+    """The false sets, by trying every growing list."""
+    return [struck for struck in every_list(runs, many) if do_close(size, runs, struck)]
+
+
+def plain_views(size, runs, many):
+    """For each false set the pair of a table of which marks hang together and of heights."""
+    return [(hang_together(size, runs, struck), plain_heights(size, runs, struck))
+            for struck in plain_false_sets(size, runs, many)]
+
+
+def plain_told(views, one, other):
+    """("none",), ("sure", rise) or ("open",), by looking at every false set."""
+    if not views:
+        return ("none",)
+    rises = {heights[other] - heights[one] for table, heights in views}
+    if len(rises) == 1 and all(table[one][other] for table, heights in views):
+        return "sure", rises.pop()
+    return ("open",)
 
 
 def spoil(value):
@@ -100,11 +172,12 @@ def spoil(value):
         value.reverse()
 
 
-def has_truth(value):
-    """True where True or False stands somewhere in lists and tuples."""
+def every_thing(value):
+    """A value and all that is within its lists and tuples."""
+    yield value
     if isinstance(value, (list, tuple)):
-        return any(has_truth(part) for part in value)
-    return isinstance(value, bool)
+        for part in value:
+            yield from every_thing(part)
 
 
 def check_call(case, function, *arguments):
@@ -113,11 +186,13 @@ def check_call(case, function, *arguments):
     given = copy.deepcopy(arguments)
     told = function(*given)
     case.assertEqual(given, arguments)
+    lists = [id(part) for part in every_thing(told) if isinstance(part, list)]
+    case.assertEqual(len(set(lists)), len(lists))
     answer = copy.deepcopy(told)
     spoil(told)
     case.assertEqual(given, arguments)
     spoil(given)
     case.assertEqual(function(*copy.deepcopy(arguments)), answer)
     if not isinstance(answer, bool):
-        case.assertFalse(has_truth(answer))
+        case.assertFalse(any(isinstance(part, bool) for part in every_thing(answer)))
     return answer

@@ -16,6 +16,9 @@ BUILTINS = set("""len range enumerate zip min max sum abs sorted reversed int st
     isinstance ord repr any all divmod Exception ValueError TypeError KeyError IndexError LookupError
     ZeroDivisionError ArithmeticError OverflowError RuntimeError NotImplementedError AttributeError
     StopIteration""".split())
+METHODS = set("""append clear copy count endswith extend find get index insert isalnum isalpha isdigit islower
+    isspace isupper items join keys ljust lower lstrip partition pop remove replace reverse rfind rjust rpartition
+    rsplit rstrip setdefault split splitlines startswith strip update upper values zfill bit_length""".split())
 ALL_BUILTINS = set(dir(__builtins__) if not isinstance(__builtins__, dict) else __builtins__)
 
 
@@ -67,6 +70,49 @@ class Language(unittest.TestCase):
                     self.assertIsNone(node.args.vararg or node.args.kwarg)
                 if isinstance(node, (ast.For, ast.While)):
                     self.assertEqual(node.orelse, [])
+
+    def test_imports_name_the_file_that_defines_and_go_one_way(self):
+        defined = {}
+        imported = {}
+        for path, text, nodes in self.each():
+            name = f"fenlevel.{path.stem}"
+            defined[name] = [node.name for node in ast.parse(text).body
+                             if isinstance(node, (ast.FunctionDef, ast.ClassDef))]
+            self.assertEqual(len(set(defined[name])), len(defined[name]))
+            imported[name] = [node for node in nodes if isinstance(node, ast.ImportFrom)]
+        for name, nodes in imported.items():
+            for node in nodes:
+                for alias in node.names:
+                    self.assertIn(alias.name, defined[node.module])
+        # Files without an import left are taken away until none is left; a ring of imports would stay.
+        waiting = {name: {node.module for node in nodes} for name, nodes in imported.items()}
+        while waiting:
+            ready = [name for name in waiting if not waiting[name] & set(waiting)]
+            self.assertTrue(ready, waiting)
+            for name in ready:
+                del waiting[name]
+
+    def test_no_name_of_an_import_or_a_class_means_something_else(self):
+        for path, text, nodes in self.each():
+            names = {alias.name for node in nodes if isinstance(node, ast.ImportFrom) for alias in node.names}
+            names |= {node.name for node in nodes if isinstance(node, ast.ClassDef)}
+            stored = {node.id for node in nodes if isinstance(node, ast.Name) and isinstance(node.ctx, ast.Store)}
+            stored |= {node.arg for node in nodes if isinstance(node, ast.arg)}
+            self.assertEqual(names & stored, set())
+
+    def test_methods_and_sets(self):
+        for path, text, nodes in self.each():
+            for node in nodes:
+                # So far no class has methods, so each method that is called is one of a builtin value.
+                if isinstance(node, ast.Call) and isinstance(node.func, ast.Attribute):
+                    self.assertIn(node.func.attr, METHODS)
+                    self.assertEqual(node.keywords, [])
+                if isinstance(node, (ast.For, ast.comprehension)):
+                    self.assertNotIsInstance(node.iter, (ast.Set, ast.SetComp))
+                if isinstance(node, ast.Starred):
+                    self.assertIsInstance(node.ctx, ast.Store)
+                if isinstance(node, ast.Compare) and isinstance(node.ops[0], (ast.Is, ast.IsNot)):
+                    self.assertIsInstance(node.comparators[0], ast.Constant)
 
     def test_builtins(self):
         for path, text, nodes in self.each():
