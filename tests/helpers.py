@@ -3,6 +3,9 @@
 import copy
 import itertools
 import random
+import re
+
+from fenlevel.errors import FenError
 
 # A square 0-1-2-3 with a chord, and two marks 4 and 5 of their own; it closes.
 SQUARE = [(0, 1, 5, 0), (2, 1, 2, 1), (2, 3, -4, 0), (0, 3, -1, 2), (0, 2, 3, 3), (5, 4, 7, 1)]
@@ -162,6 +165,22 @@ def plain_told(views, one, other):
     return ("open",)
 
 
+def plain_parting(size, runs, many, pairs):
+    """For each pair of marks what parting tells, by trying every growing list."""
+    found = {pair: None for pair in pairs}
+    for struck in every_list(runs, many):
+        table = hang_together(size, runs, struck)
+        for one, other in pairs:
+            if found[one, other] is None and not table[one][other]:
+                found[one, other] = struck
+    return found
+
+
+def with_rises(runs, rises):
+    """The runs as they come to tell these rises."""
+    return [(one, other, rise, hand) for (one, other, old, hand), rise in zip(runs, rises, strict=True)]
+
+
 def spoil(value):
     """Changes every list that is in a value, as a careless caller might."""
     if isinstance(value, (list, tuple)):
@@ -196,3 +215,130 @@ def check_call(case, function, *arguments):
     if not isinstance(answer, bool):
         case.assertFalse(any(isinstance(part, bool) for part in every_thing(answer)))
     return answer
+
+
+def plain_book(deeds):
+    """What a fen holds behind deeds of which none is refused, each done as the document tells it."""
+    book = {"stands": [], "hands": [], "aside": set(), "runs": {}, "entered": 0, "allowed": 0}
+    for word, *rest in deeds:
+        if word in ("mark", "settle"):
+            book["stands"].append((rest[0], 1 + len(plain_turns(book, rest[0]))))
+        elif word == "hand":
+            book["hands"].append(rest[0])
+        elif word == "run":
+            one, other, rise, hand = rest
+            book["entered"] += 1
+            book["runs"][book["entered"]] = [one, max(plain_turns(book, one)), other, max(plain_turns(book, other)),
+                                             rise, hand]
+        elif word == "strike":
+            del book["runs"][rest[0]]
+        elif word == "mend":
+            book["runs"][rest[0]][4] = rest[1]
+        elif word == "allow":
+            book["allowed"] = rest[0]
+        else:
+            book["aside"] ^= {rest[0]}
+    return book
+
+
+def plain_turns(book, name):
+    """The turns of a mark's stands."""
+    return [turn for each, turn in book["stands"] if each == name]
+
+
+def plain_refusal(book, row):
+    """The name of the class that refuses a deed, or None, by the document's table."""
+    word, *rest = row
+    name = rest[0]
+    named = isinstance(name, str) and re.fullmatch("[a-z]{1,8}", name)
+    full = len(book["stands"]) >= 12
+    if word == "mark":
+        reasons = [("BadName", not named), ("Taken", plain_turns(book, name)), ("Full", full)]
+    elif word == "hand":
+        reasons = [("BadName", not named), ("Taken", name in book["hands"]), ("Full", len(book["hands"]) >= 10)]
+    elif word == "run":
+        one, other, rise, hand = rest
+        reasons = [("NoMark", not plain_turns(book, one)), ("NoMark", not plain_turns(book, other)),
+                   ("Same", one == other), ("NoHand", hand not in book["hands"]),
+                   ("BadRise", not -10 ** 9 <= rise <= 10 ** 9), ("Full", len(book["runs"]) >= 40)]
+    elif word == "strike":
+        reasons = [("NoRun", name not in book["runs"])]
+    elif word == "mend":
+        reasons = [("NoRun", name not in book["runs"]), ("BadRise", not -10 ** 9 <= rest[1] <= 10 ** 9)]
+    elif word == "settle":
+        reasons = [("NoMark", not plain_turns(book, name)), ("Full", full)]
+    elif word == "aside":
+        reasons = [("NoHand", name not in book["hands"]), ("Aside", name in book["aside"])]
+    elif word == "heed":
+        reasons = [("NoHand", name not in book["hands"]), ("NotAside", name not in book["aside"])]
+    else:
+        reasons = [("BadNumber", name not in (0, 1, 2, 3))]
+    return next((reason for reason, so in reasons if so), None)
+
+
+def plain_runs(book):
+    """The runs that count, by numbers."""
+    return [(book["stands"].index((one, turn)), book["stands"].index((other, end)), rise, book["hands"].index(hand))
+            for one, turn, other, end, rise, hand in book["runs"].values() if hand not in book["aside"]]
+
+
+def plain_place(book, name):
+    """The number of a mark's last stand."""
+    return book["stands"].index((name, max(plain_turns(book, name))))
+
+
+def refused(function, *arguments):
+    """What a call tells, or the class that refuses it."""
+    try:
+        return function(*arguments)
+    except FenError as error:
+        return type(error)
+
+
+def all_asked(fen):
+    """All that can be asked of a fen, refusals too."""
+    names = fen.marks() + ["nomark"]
+    answers = [fen.deeds(), fen.marks(), fen.hands(), fen.asides(), fen.stands(), fen.allowed(), fen.runs(),
+               fen.counting(), fen.false_sets(), fen.least(), fen.groups(), [refused(fen.sank, name) for name in names]]
+    for ask in (fen.height, fen.paper, fen.readings, fen.parting, fen.foe):
+        answers.append([refused(ask, one, other) for one in names for other in names])
+    return answers
+
+
+def to_do_again(fen):
+    """The deeds that a fen can do again, the next one first."""
+    twin = fen.twin()
+    kept = len(twin.deeds())
+    while refused(twin.again) is None:
+        pass
+    return twin.deeds()[kept:]
+
+
+def drawn_deed(source, book):
+    """A deed, as chance has it: mostly one that fits, sometimes one that is refused."""
+    marks = [name for name, turn in book["stands"] if turn == 1] or ["none"]
+    hands = book["hands"] or ["none"]
+    if source.randrange(12) == 0:
+        marks, hands = ["a", "nomark", "B", ""], ["h", "nohand", "", "a b"]
+    rise = source.choice((0, 0, 0, 1, 2, 10 ** 9, -10 ** 9, 10 ** 9 + 1, -10 ** 9 - 1) if source.randrange(3) == 0
+                         else (0, 1))
+    number = source.randrange(-1, book["entered"] + 2)
+    word = source.choice(["mark"] * 3 + ["hand"] * 3 + ["run"] * 9 +
+                         ["strike", "mend", "settle", "aside", "heed", "allow", "allow"])
+    return {"mark": ("mark", source.choice("abcdefgh" + "ABC") * source.choice((1, 1, 1, 8, 9))),
+            "hand": ("hand", source.choice("hijklmnopq" + "1") * source.choice((1, 1, 1, 8, 9))),
+            "run": ("run", source.choice(marks), source.choice(marks), rise, source.choice(hands)),
+            "strike": ("strike", number), "mend": ("mend", number, rise), "settle": ("settle", source.choice(marks)),
+            "aside": ("aside", source.choice(hands)), "heed": ("heed", source.choice(hands)),
+            "allow": ("allow", source.randrange(-1, 5))}[word]
+
+
+def drawn_deeds(source, many):
+    """So many deeds of which none is refused, as chance has it."""
+    deeds = []
+    while len(deeds) < many:
+        book = plain_book(deeds)
+        row = drawn_deed(source, book)
+        if plain_refusal(book, row) is None:
+            deeds.append(row)
+    return deeds

@@ -20,14 +20,41 @@ METHODS = set("""append clear copy count endswith extend find get index insert i
     isspace isupper items join keys ljust lower lstrip partition pop remove replace reverse rfind rjust rpartition
     rsplit rstrip setdefault split splitlines startswith strip update upper values zfill bit_length""".split())
 ALL_BUILTINS = set(dir(__builtins__) if not isinstance(__builtins__, dict) else __builtins__)
+# What values of Python's own have as methods or attributes, so that own ones may not be called so.
+ATTRIBUTES = {name for kind in (str, int, list, tuple, dict, set, bytes) for name in dir(kind)}
+ON_THE_SPOT = ("zip", "enumerate", "reversed", "range", "items", "keys", "values")
+TAKERS = "list tuple dict sorted sum any all enumerate zip bytes min max".split()
+MODULE_FORMS = (ast.ImportFrom, ast.FunctionDef, ast.ClassDef, ast.Assign)
+
+
+def called(node):
+    """The name by which a function or a method is called, or None."""
+    if not isinstance(node, ast.Call):
+        return None
+    return node.func.id if isinstance(node.func, ast.Name) else getattr(node.func, "attr", None)
+
+
+def parents_of(nodes):
+    """For each node the one that it stands in."""
+    return {child: node for node in nodes for child in ast.iter_child_nodes(node)}
 
 
 class Language(unittest.TestCase):
     def each(self):
-        for path in FILES:
-            with self.subTest(path.name):
-                text = path.read_text(encoding="utf-8")
-                yield path, text, list(ast.walk(ast.parse(text)))
+        texts = [(path, path.read_text(encoding="utf-8")) for path in FILES]
+        return [(path, text, list(ast.walk(ast.parse(text)))) for path, text in texts]
+
+    def classes(self):
+        """The classes of the package, each as its node."""
+        return [node for path, text, nodes in self.each() for node in nodes if isinstance(node, ast.ClassDef)]
+
+    def own_methods(self):
+        return {node.name for each in self.classes() for node in each.body if isinstance(node, ast.FunctionDef)}
+
+    def own_errors(self):
+        """The names of the error classes, which all stand in one file."""
+        text = (PACKAGE / "errors.py").read_text(encoding="utf-8")
+        return {node.name for node in ast.parse(text).body if isinstance(node, ast.ClassDef)}
 
     def test_the_folder(self):
         found = [path for path in PACKAGE.iterdir() if path.name != "__pycache__"]
@@ -101,18 +128,79 @@ class Language(unittest.TestCase):
             self.assertEqual(names & stored, set())
 
     def test_methods_and_sets(self):
+        own = self.own_methods()
         for path, text, nodes in self.each():
+            parents = parents_of(nodes)
             for node in nodes:
-                # So far no class has methods, so each method that is called is one of a builtin value.
                 if isinstance(node, ast.Call) and isinstance(node.func, ast.Attribute):
-                    self.assertIn(node.func.attr, METHODS)
+                    self.assertIn(node.func.attr, METHODS | own)
                     self.assertEqual(node.keywords, [])
-                if isinstance(node, (ast.For, ast.comprehension)):
-                    self.assertNotIsInstance(node.iter, (ast.Set, ast.SetComp))
+                if isinstance(node, (ast.Set, ast.SetComp)) or called(node) == "set":
+                    holder = parents[node]
+                    self.assertTrue(called(holder) in ("sorted", "len") or isinstance(holder, ast.Compare), path.name)
                 if isinstance(node, ast.Starred):
                     self.assertIsInstance(node.ctx, ast.Store)
                 if isinstance(node, ast.Compare) and isinstance(node.ops[0], (ast.Is, ast.IsNot)):
                     self.assertIsInstance(node.comparators[0], ast.Constant)
+
+    def test_iterated_on_the_spot(self):
+        for path, text, nodes in self.each():
+            parents = parents_of(nodes)
+            for node in nodes:
+                if called(node) in ON_THE_SPOT:
+                    holder = parents[node]
+                    fits = isinstance(holder, (ast.For, ast.comprehension)) or called(holder) in TAKERS
+                    tested = isinstance(holder, ast.Compare) and isinstance(holder.ops[0], (ast.In, ast.NotIn))
+                    self.assertTrue(fits or tested and called(node) in ("range", "keys"), (path.name, node.lineno))
+
+    def test_own_methods_and_attributes(self):
+        methods = self.own_methods()
+        self.assertEqual({name for name in methods if name in ATTRIBUTES - METHODS}, {"__init__"})
+        assigned = set()
+        read = set()
+        for path, text, nodes in self.each():
+            handed = {node.func for node in nodes if isinstance(node, ast.Call)}
+            for node in nodes:
+                if isinstance(node, ast.Attribute) and node not in handed:
+                    (assigned if isinstance(node.ctx, ast.Store) else read).add(node.attr)
+        self.assertEqual(assigned & methods, set())
+        self.assertEqual(assigned & ATTRIBUTES, set())
+        self.assertEqual(read - assigned, set())
+
+    def test_classes(self):
+        for node in self.classes():
+            names = [each.name for each in node.body if isinstance(each, ast.FunctionDef)]
+            self.assertEqual(len(set(names)), len(names))
+            self.assertLessEqual(len(node.bases), 1)
+            for each in node.body:
+                docstring = isinstance(each, ast.Expr) and isinstance(each.value, ast.Constant)
+                self.assertTrue(docstring or isinstance(each, ast.FunctionDef), node.name)
+
+    def test_errors_by_name(self):
+        own = self.own_errors()
+        for path, text, nodes in self.each():
+            for node in nodes:
+                if isinstance(node, ast.Raise):
+                    self.assertIn(called(node.exc), own)
+                if isinstance(node, ast.ExceptHandler):
+                    self.assertIn(node.type.id, own)
+                    self.assertIsNone(node.name)
+
+    def test_module_level(self):
+        for path, text, nodes in self.each():
+            for node in ast.parse(text).body[1:]:
+                self.assertIsInstance(node, MODULE_FORMS)
+            for node in nodes:
+                if isinstance(node, ast.FunctionDef):
+                    self.assertEqual(node.args.defaults + node.args.kw_defaults + node.args.posonlyargs, [])
+
+    def test_texts(self):
+        for path, text, nodes in self.each():
+            self.assertNotRegex(text, r"\\[^n]")
+            for node in nodes:
+                if isinstance(node, ast.FormattedValue):
+                    self.assertIsNone(node.format_spec)
+                    self.assertFalse([each for each in ast.walk(node.value) if isinstance(each, ast.Constant)])
 
     def test_builtins(self):
         for path, text, nodes in self.each():

@@ -5,8 +5,8 @@ import unittest
 from fenlevel.parting import foe, parting, parts
 from fenlevel.readings import is_reading
 from fenlevel.sure import told
-from tests.helpers import (SQUARE, check_call, every_list, hand_cases, hang_together, large_cases, plain_told,
-                           plain_views, small_cases, some_struck, worst_cases)
+from tests.helpers import (SQUARE, check_call, hand_cases, hang_together, large_cases, plain_parting, plain_told,
+                           plain_views, small_cases, some_struck, with_rises, worst_cases)
 
 HUGE = 10 ** 60
 # From 0 to 2 by way of 1, with hands 4 and 7 at the first step and 2, 5 and 7 at the second one; mark 3 is alone.
@@ -27,22 +27,6 @@ def other_rises(runs, source):
 def plain_parts(size, runs, struck, one, other):
     """As parts, by a table of all marks."""
     return not hang_together(size, runs, struck)[one][other]
-
-
-def plain_parting(size, runs, many, pairs):
-    """For each pair of marks what parting tells, by trying every growing list."""
-    found = {pair: None for pair in pairs}
-    for struck in every_list(runs, many):
-        table = hang_together(size, runs, struck)
-        for one, other in pairs:
-            if found[one, other] is None and not table[one][other]:
-                found[one, other] = struck
-    return found
-
-
-def with_rises(runs, rises):
-    """The runs as they come to tell these rises."""
-    return [(one, other, rise, hand) for (one, other, old, hand), rise in zip(runs, rises, strict=True)]
 
 
 def disjoint_lines(source, lines, size):
